@@ -1,0 +1,1 @@
+"""Keptagain: whatever is left to do can be kept, and gone on with again."""

@@ -1,0 +1,26 @@
+"""The examples of the document, as it shows them, with the answers that it shows."""
+
+import doctest
+import os
+import unittest
+
+HERE = os.path.dirname(os.path.abspath(__file__))
+
+
+class Examples(unittest.TestCase):
+
+    def check(self, name):
+        with open(os.path.join(HERE, name), encoding="utf-8") as file:
+            text = file.read()
+        test = doctest.DocTestParser().get_doctest(text, {}, name, name, 0)
+        self.assertTrue(test.examples)
+        said = []
+        result = doctest.DocTestRunner(verbose=False).run(test, out=said.append)
+        self.assertEqual(result.failed, 0, "".join(said))
+
+    def test_section_4(self):
+        self.check("section_4.txt")
+
+
+if __name__ == "__main__":
+    unittest.main()
