@@ -1,64 +1,95 @@
 """Data printed. Nothing here recurs: data may be nested, and lists may go on, without end."""
 
-from keptagain.data import EMPTY, Pair
+from keptagain.data import EMPTY, Pair, kind_of
+from keptagain.words import CHUNK, CHUNK_SCALE
 
 MOST_SIGNS = 2000
 LONG = "#long"
-
-
-class Unwritten:
-    """What stands in a list behind a datum that was written."""
-
-    def __init__(self, tail):
-        self.tail = tail
+# Python itself surely writes integers of so many bits: it never refuses fewer than 640 figures.
+WRITTEN_BITS = 2000
 
 
 def datum_text(datum):
     """What is printed of datum."""
+    text = text_within(datum, MOST_SIGNS)
+    return LONG if text is None else text
+
+
+def full_text(datum):
+    """What is printed of datum, however long."""
+    return text_within(datum, None)
+
+
+def text_within(datum, most):
+    """Datum written out; None if this has more than most signs (None: as many as there are)."""
     texts = []
-    room = MOST_SIGNS
-    waiting = [datum]
-    while waiting:
-        thing = waiting.pop()
-        if is_too_great(thing):
-            return LONG
-        text = next_text(thing, waiting)
-        room -= len(text)
-        if room < 0:
-            return LONG
+    signs = 0
+    tails = []
+    thing = datum
+    while thing is not None:
+        if isinstance(thing, Pair):
+            text = "("
+            tails.append(thing.tail)
+            thing = thing.head
+        elif isinstance(thing, int) and is_too_great(thing, most):
+            return None
+        else:
+            behind, following = text_behind(tails)
+            text = single_text(thing) + behind
+            thing = following
+        signs += len(text)
+        if most is not None and signs > most:
+            return None
         texts.append(text)
     return "".join(texts)
 
 
-def is_too_great(thing):
-    """Whether thing is an integer that surely has too many figures, each being less than 4 bits.
+def text_behind(tails):
+    """What stands behind a datum, up to the next one, and that next one, None at the end.
 
-    Python itself refuses to write more than 4300 figures, so it is not asked.
+    tails are the tails of all lists that are open, the innermost one last.
     """
-    return isinstance(thing, int) and thing.bit_length() > 4 * MOST_SIGNS
+    text = ""
+    while tails:
+        tail = tails.pop()
+        if isinstance(tail, Pair):
+            tails.append(tail.tail)
+            return text + " ", tail.head
+        if tail != EMPTY:
+            tails.append(EMPTY)
+            return text + " . ", tail
+        text += ")"
+    return text, None
 
 
-def next_text(thing, waiting):
-    """The text with which thing begins; whatever follows it is put on waiting, the next one last."""
-    if isinstance(thing, Pair):
-        put_list(thing, waiting)
-        return "("
-    if isinstance(thing, Unwritten):
-        return tail_text(thing.tail, waiting)
-    return str(thing)
+def single_text(thing):
+    """The text of what is no pair."""
+    if isinstance(thing, str):
+        return thing
+    if isinstance(thing, int):
+        return number_text(thing)
+    return "#" + kind_of(thing)
 
 
-def tail_text(tail, waiting):
-    """As next_text, of a list of which only tail is left."""
-    if isinstance(tail, Pair):
-        put_list(tail, waiting)
-        return " "
-    if tail == EMPTY:
-        return ")"
-    waiting.extend([")", tail])
-    return " . "
+def is_too_great(number, most):
+    """Whether an integer surely has more than most figures, each being less than 4 bits."""
+    return most is not None and number.bit_length() > 4 * most
 
 
-def put_list(pair, waiting):
-    """Lets a list wait, of which the sign ahead of its head is written."""
-    waiting.extend([Unwritten(pair.tail), pair.head])
+def number_text(number):
+    """An integer as Python writes it, also one that is too long for Python itself."""
+    if number.bit_length() <= WRITTEN_BITS:
+        return str(number)
+    figures = "".join([str(part).zfill(CHUNK) for part in chunks_of(abs(number))]).lstrip("0")
+    return "-" + figures if number < 0 else figures
+
+
+def chunks_of(number):
+    """The figures of number, CHUNK of them in each part, the highest ones first."""
+    scales = [CHUNK_SCALE]
+    while scales[-1] * scales[-1] <= number:
+        scales.append(scales[-1] * scales[-1])
+    parts = [number]
+    for scale in reversed(scales):
+        parts = [half for part in parts for half in divmod(part, scale)]
+    return parts

@@ -28,7 +28,7 @@ def line_words(line):
     found = []
     at = 0
     while at < len(code):
-        end = word_end(code, at)
+        end = word_end(code, at + 1) if code[at] in WORD_SIGNS else at + 1
         if code[at] != " ":
             found.append((at + 1, code[at:end]))
         at = end
@@ -36,11 +36,11 @@ def line_words(line):
 
 
 def word_end(code, at):
-    """Where the word ends that begins at at."""
+    """Where the word ends that goes on at at, if it does."""
     end = at
     while end < len(code) and code[end] in WORD_SIGNS:
         end += 1
-    return max(end, at + 1)
+    return end
 
 
 def is_integer(word):
@@ -60,11 +60,13 @@ def is_name(word):
 
 def has_only(word, signs):
     """Whether word has a sign, and none but those of signs."""
-    return word != "" and all([sign in signs for sign in word])
+    return word != "" and word.strip(signs) == ""
 
 
 def number_of(word):
     """The number of a word that is an integer, however long."""
+    if len(word) <= CHUNK:
+        return int(word)
     figures = word.removeprefix("-")
     parts = [int(figures[max(end - CHUNK, 0):end]) for end in range(len(figures), 0, -CHUNK)]
     scale = CHUNK_SCALE

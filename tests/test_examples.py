@@ -21,6 +21,18 @@ class Examples(unittest.TestCase):
     def test_section_4(self):
         self.check("section_4.txt")
 
+    def test_section_5(self):
+        self.check("section_5.txt")
+
+    def test_section_6(self):
+        self.check("section_6.txt")
+
+    def test_section_7(self):
+        self.check("section_7.txt")
+
+    def test_section_8(self):
+        self.check("section_8.txt")
+
 
 if __name__ == "__main__":
     unittest.main()

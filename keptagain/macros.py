@@ -1,0 +1,42 @@
+"""Macros: what comes of a text when all of them are spelled out."""
+
+from keptagain.data import Pair
+from keptagain.expanding import Expander, macro_of
+from keptagain.prelude import PRELUDE
+from keptagain.printing import full_text
+from keptagain.reading import data_in
+
+
+def core_forms(text):
+    """The core forms of text, each behind the number of the form of which it came."""
+    forms = data_in(text)
+    expander = Expander(prelude_macros(forms))
+    found = []
+    for number, form in enumerate(forms, start=1):
+        if begins_with(form, ("macro",)):
+            expander.learn(form, number)
+        else:
+            found.append((number, expander.core_of(form, number)))
+    return found
+
+
+def begins_with(form, words):
+    """Whether form is a list with one of words at its begin."""
+    return isinstance(form, Pair) and form.head in words
+
+
+def prelude_macros(forms):
+    """The prelude's macros, by their names, but for those that forms make anew."""
+    anew = [form.tail.head for form in forms
+            if begins_with(form, ("macro", "def")) and isinstance(form.tail, Pair)]
+    macros = {}
+    for form in data_in(PRELUDE):
+        name = form.tail.head
+        if name not in anew:
+            macros[name] = macro_of(form, 0)
+    return macros
+
+
+def expanded(text):
+    """The core forms of text, each printed in full."""
+    return tuple([full_text(core) for number, core in core_forms(text)])
