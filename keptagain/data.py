@@ -23,10 +23,7 @@ class Pair:
 
 
 class Cell:
-    """Holds a datum, which can be changed."""
-
-    def __init__(self, datum):
-        self.datum = datum
+    """Holds a datum, which can be changed; which one, the run knows that made it (see primitives.py)."""
 
 
 class Function:
@@ -48,6 +45,19 @@ def things_of(datum):
         things.append(datum.head)
         datum = datum.tail
     return things, datum
+
+
+def pairs_in(datum):
+    """All pairs in datum, each ahead of those in its head, and these ahead of those in its tail."""
+    found = []
+    waiting = [datum]
+    while waiting:
+        thing = waiting.pop()
+        if isinstance(thing, Pair):
+            found.append(thing)
+            waiting.append(thing.tail)
+            waiting.append(thing.head)
+    return found
 
 
 def is_list(datum):

@@ -10,7 +10,7 @@ from keptagain.reading import data_in
 def core_forms(text):
     """The core forms of text, each behind the number of the form of which it came."""
     forms = data_in(text)
-    expander = Expander(prelude_macros(forms))
+    expander = Expander(prelude_macros(text, forms))
     found = []
     for number, form in enumerate(forms, start=1):
         if begins_with(form, ("macro",)):
@@ -25,15 +25,19 @@ def begins_with(form, words):
     return isinstance(form, Pair) and form.head in words
 
 
-def prelude_macros(forms):
-    """The prelude's macros, by their names, but for those that forms make anew."""
+def prelude_macros(text, forms):
+    """The prelude's macros, by their names, but for those that forms, the data of text, make anew.
+
+    Those whose names do not stand in text are left out: they cannot be used in it, as none of the others writes a use
+    of another one.
+    """
     anew = [form.tail.head for form in forms
             if begins_with(form, ("macro", "def")) and isinstance(form.tail, Pair)]
     macros = {}
-    for form in data_in(PRELUDE):
-        name = form.tail.head
-        if name not in anew:
-            macros[name] = macro_of(form, 0)
+    for line in PRELUDE.split("\n"):
+        name = line.split(" ")[1]
+        if name in text and name not in anew:
+            macros[name] = macro_of(data_in(line)[0], 0)
     return macros
 
 

@@ -9,7 +9,7 @@ from keptagain.core import need_program
 from keptagain.data import EMPTY, NO, NONE, Pair, list_of, things_of
 from keptagain.frames import (PROMPT, TRY, WIND, Closure, Frame, Part, Places, Whole, has_wind, innermost,
                               innermost_wind, outermost_wind_above, put_upon)
-from keptagain.primitives import WANTED, Fault, Primitive, Talk, outcome, refusal
+from keptagain.primitives import WANTED, Fault, Primitive, World, outcome, refusal
 from keptagain.printing import datum_text
 from keptagain.syntax import is_name
 
@@ -26,7 +26,7 @@ class Run:
 
     def __init__(self, cores, inputs):
         self.cores = cores
-        self.talk = Talk(inputs)
+        self.world = World(inputs)
         self.top = {name: Primitive(name) for name in WANTED}
         self.rest = None
 
@@ -278,7 +278,7 @@ def call_primitive(run, name, worths):
     if name in CALLING:
         action = CALLING[name]
         return action(run, *worths)
-    worth = outcome(name, worths, run.talk)
+    worth = outcome(name, worths, run.world)
     if isinstance(worth, Fault):
         return (FAULT, (worth.datum,))
     return (COME, (worth,))
@@ -337,9 +337,9 @@ def meant(program, inputs, most):
     while word != END:
         if word == CALL:
             if turns == most:
-                return ("on", tuple(run.talk.told))
+                return ("on", tuple(run.world.said))
             turns += 1
         action = STEPS[word]
         word, about = action(run, *about)
     how, datum = about
-    return (how, datum_text(datum), tuple(run.talk.told))
+    return (how, datum_text(datum), tuple(run.world.said))

@@ -24,22 +24,39 @@ class Fault:
         self.datum = datum
 
 
-class Talk:
-    """What a run told, printed, and the data that it is told when it asks."""
+class World:
+    """What a run told, printed; the data that it is told when it asks; and what each of its cells holds.
+
+    Cells alone can change: as what they hold stands here, all other data may be shared by runs that go on apart.
+    """
 
     def __init__(self, inputs):
-        self.told = []
+        self.said = []
         self.inputs = inputs
         self.asked = 0
+        self.cells = {}
 
     def tell(self, datum):
-        self.told.append(datum_text(datum))
+        self.said.append(datum_text(datum))
+        return NONE
 
     def ask(self):
         if self.asked == len(self.inputs):
             return NONE
         self.asked += 1
         return self.inputs[self.asked - 1]
+
+    def made_cell(self, datum):
+        cell = Cell()
+        self.cells[cell] = datum
+        return cell
+
+    def got(self, cell):
+        return self.cells[cell]
+
+    def put(self, cell, datum):
+        self.cells[cell] = datum
+        return NONE
 
 
 def truth(holds):
@@ -105,19 +122,6 @@ def kind_word(datum):
     return kind_of(datum)
 
 
-def made_cell(datum):
-    return Cell(datum)
-
-
-def got(cell):
-    return cell.datum
-
-
-def put(cell, datum):
-    cell.datum = datum
-    return NONE
-
-
 def failed(datum):
     return Fault(datum)
 
@@ -150,12 +154,10 @@ WANTED = {
     "use": (2, 2, ("any", "list")),
     "wind": (3, 3, ()),
 }
-# What comes of those that neither call on nor talk.
+# What comes of those that neither call on nor bear on the run's world.
 ACTIONS = {
     "add": added,
-    "cell": made_cell,
     "fail": failed,
-    "get": got,
     "head": head_of,
     "kind": kind_word,
     "less": is_less,
@@ -163,7 +165,6 @@ ACTIONS = {
     "mul": multiplied,
     "not": negated,
     "pair": paired,
-    "put": put,
     "quo": quotient,
     "rem": remainder,
     "same": is_same,
@@ -199,12 +200,17 @@ def is_wanted(worth, wanted):
     return kind_of(worth) == wanted
 
 
-def outcome(name, worths, talk):
+def outcome(name, worths, world):
     """The worth of a call that is not refused, or its Fault; not for primitives that call on."""
     if name == "tell":
-        talk.tell(worths[0])
-        return NONE
+        return world.tell(*worths)
     if name == "ask":
-        return talk.ask()
+        return world.ask()
+    if name == "cell":
+        return world.made_cell(*worths)
+    if name == "get":
+        return world.got(*worths)
+    if name == "put":
+        return world.put(*worths)
     action = ACTIONS[name]
     return action(*worths)

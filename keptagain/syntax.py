@@ -17,7 +17,8 @@ class Written(Pair):
     """A pair that knows how many data are printed of the list that begins with it."""
 
     def __init__(self, head, tail, size):
-        Pair.__init__(self, head, tail)
+        self.head = head
+        self.tail = tail
         self.size = size
 
 

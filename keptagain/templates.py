@@ -131,7 +131,7 @@ class Writing:
     def repeated(self, repeat, found):
         """What part writes for one thing after the other."""
         if isinstance(repeat.part, Hole):
-            return self.taken(found[repeat.part.name])
+            return self.as_they_are(found[repeat.part.name])
         many = len(found[repeat.names[0]])
         if [name for name in repeat.names if len(found[name]) != many]:
             raise BadForm(self.number)
@@ -143,7 +143,7 @@ class Writing:
             things.append(self.written(repeat.part, within))
         return things
 
-    def taken(self, things):
+    def as_they_are(self, things):
         """Things as they are, counted."""
         self.grow(sum([size_of(thing) for thing in things]))
         return things

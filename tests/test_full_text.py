@@ -50,14 +50,14 @@ class FullText(unittest.TestCase):
 class WhatRunsMake(unittest.TestCase):
 
     def test_what_they_are_printed_as(self):
-        for thing, kind in ((Cell(5), "cell"), (Function(), "fn"), (Primitive("add"), "fn"), (Whole(None), "rest"),
+        for thing, kind in ((Cell(), "cell"), (Function(), "fn"), (Primitive("add"), "fn"), (Whole(None), "rest"),
                             (Part(None, None), "rest")):
             self.assertEqual((kind_of(thing), datum_text(thing)), (kind, "#" + kind))
             self.assertEqual(datum_text(list_of([1, thing], thing)), "(1 #%s . #%s)" % (kind, kind))
 
     def test_their_signs_count(self):
-        self.assertEqual(len(datum_text(list_of(["a" * 16] * 117 + [Cell(1)], EMPTY))), 1996)
-        self.assertEqual(datum_text(list_of(["a" * 16] * 117 + ["a" * 5, "a"], Cell(1))), "#long")
+        self.assertEqual(len(datum_text(list_of(["a" * 16] * 117 + [Cell()], EMPTY))), 1996)
+        self.assertEqual(datum_text(list_of(["a" * 16] * 117 + ["a" * 5, "a"], Cell())), "#long")
 
 
 if __name__ == "__main__":
