@@ -2,12 +2,39 @@
 
 from keptagain.core import Program
 from keptagain.errors import KeptError
+from keptagain.machine import Machine
 from keptagain.meaning import meant
 
 
 def run(text, inputs=(), most=20000):
-    """What meant tells of text."""
-    return meant(Program(text), inputs, most)
+    """What meant tells of text, which is what a machine tells."""
+    program = Program(text)
+    told = meant(program, inputs, most)
+    machine = Machine(program, inputs)
+    begun = machine.run(most)
+    if told_by(machine) != told or machine.turns != begun or (machine.ending is None and begun != most):
+        raise AssertionError((text, inputs, most, told, told_by(machine), begun))
+    return told
+
+
+def told_by(machine):
+    """What a machine, or a bench, tells, as meant tells it."""
+    return ("on", machine.told) if machine.ending is None else (*machine.ending, machine.told)
+
+
+def tells(machine):
+    """All that section 10 lets a machine tell."""
+    return {"told": machine.told, "turns": machine.turns, "rows": machine.rows, "ending": machine.ending,
+            "depth": machine.depth, "live": machine.live, "things": machine.things, "pieces": machine.pieces,
+            "frames": [machine.frame(number) for number in range(machine.depth + 1)]}
+
+
+def stepped(program, inputs, rows):
+    """A machine on which so many rows were done."""
+    machine = Machine(program, inputs)
+    for _ in range(rows):
+        machine.step()
+    return machine
 
 
 def worth(text, inputs=()):

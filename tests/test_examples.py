@@ -33,6 +33,27 @@ class Examples(unittest.TestCase):
     def test_section_8(self):
         self.check("section_8.txt")
 
+    def test_section_9(self):
+        self.check("section_9.txt")
+
+    def test_section_10(self):
+        self.check("section_10.txt")
+
+    def test_section_11(self):
+        self.check("section_11.txt")
+
+    def test_section_12(self):
+        self.check("section_12.txt")
+
+    def test_section_13(self):
+        self.check("section_13.txt")
+
+    def test_section_14(self):
+        self.check("section_14.txt")
+
+    def test_section_15(self):
+        self.check("section_15.txt")
+
 
 if __name__ == "__main__":
     unittest.main()

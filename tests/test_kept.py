@@ -1,16 +1,19 @@
-"""Sections 3, (c), (d), and 7: what is kept whole and in part, gone on with from wherever, and winds.
+"""Sections 3, (b) to (d), 7 and 11: what is kept whole and in part, gone on with from wherever, and winds.
 
 Each program is run with just as many turns as it wants, with one less and one more, and by section 7 taken word by
-word.
+word; and by machines, collected and not, with each number of turns.
 """
 
 import unittest
 
+from keptagain.collecting import collect, held, swept
 from keptagain.core import Program
+from keptagain.images import image
+from keptagain.machine import Machine
 from keptagain.meaning import meant
 
 from plain import plainly
-from runs import turns_of
+from runs import told_by, turns_of
 
 # (wound NAME BODY) tells NAME at its in and its out.
 WOUND = "(macro wound () ((wound name e) (wind (fn () (tell '(in name))) (fn () e) (fn () (tell '(out name))))))\n"
@@ -34,6 +37,23 @@ class Kept(unittest.TestCase):
             self.assertEqual((word, so_far), ("on", tuple(tells)[:len(so_far)]))
         for most in (turns + 1, turns, turns - 1, turns // 2):
             self.assertEqual(plainly(program, (), max(most, 0)), meant(program, (), max(most, 0)))
+        self.check_machine(program, turns)
+
+    def check_machine(self, program, turns):
+        """A machine tells the same behind each number of turns, up to the end and one beyond, collected or not."""
+        machine, swept_one = Machine(program, ()), Machine(program, ())
+        for most in range(turns + 2):
+            told = meant(program, (), most)
+            self.assertEqual(told_by(machine), told)
+            self.assertEqual(told_by(swept_one), told)
+            collect(swept_one)
+            self.assertEqual(held(machine), swept_one.things)
+            self.assertEqual(image(machine), image(swept_one))
+            for one in (machine, swept_one):
+                self.assertEqual(one.run(1), 0 if most >= turns else 1)
+        for pace in (1, 2, 3, 7, 1000):
+            for most in (turns + 1, turns, max(turns - 1, 0), turns // 2):
+                self.assertEqual(swept(program, (), most, pace), meant(program, (), most))
 
 
 class Whole(Kept):
