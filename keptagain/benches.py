@@ -182,4 +182,5 @@ def deed_lines(bench):
 def bench_lines(bench):
     """The lines of bench's journal."""
     text = bench.program.text.split("\n")
-    return [f"text {len(text)}", *text, f"inputs {len(bench.inputs)}", *bench.inputs, "deeds", *deed_lines(bench)]
+    inputs = list(bench.inputs)
+    return [f"text {len(text)}"] + text + [f"inputs {len(inputs)}"] + inputs + ["deeds"] + deed_lines(bench)

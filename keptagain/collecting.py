@@ -43,4 +43,5 @@ def swept(program, inputs, most, pace):
         do_row(machine.state)
     if machine.ending is None:
         return ("on", machine.told)
-    return (*machine.ending, machine.told)
+    how, datum = machine.ending
+    return (how, datum, machine.told)

@@ -93,7 +93,7 @@ def holding_of(state):
     holding.take_worths(list(state.top.values()))
     frame = state.running
     if frame is not None:
-        holding.take_worths([*frame.taken, *frame.own, *frame.pile])
+        holding.take_worths(list(frame.taken) + frame.own + frame.pile)
     holding.take_frames(state.live)
     holding.take_chain(state.chain)
     take_next(holding, state)

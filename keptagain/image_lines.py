@@ -16,8 +16,9 @@ BAR = "|"
 def image_lines(state):
     """All lines of the image of what stands as state tells."""
     telling = Telling(state)
-    return [*talk_lines(state), *count_lines(state), *telling.global_lines(), *telling.next_lines(),
-            *telling.waiting_lines(), *telling.lines_of_numbers()]
+    # Numbers are given as they are first told, so the lines are made in their sequence.
+    lines = talk_lines(state) + count_lines(state) + telling.global_lines() + telling.next_lines()
+    return lines + telling.waiting_lines() + telling.lines_of_numbers()
 
 
 def talk_lines(state):
@@ -25,7 +26,8 @@ def talk_lines(state):
     world = state.world
     text = state.program.text.split("\n")
     left = [full_text(datum) for datum in world.inputs[world.asked:]]
-    return ["image", f"text {len(text)}", *text, f"inputs {len(left)}", *left, f"told {len(world.said)}", *world.said]
+    lines = ["image", f"text {len(text)}"] + text + [f"inputs {len(left)}"] + left
+    return lines + [f"told {len(world.said)}"] + world.said
 
 
 def count_lines(state):
@@ -73,7 +75,7 @@ class Telling:
 
     def deed_words(self, deed):
         word, worths = deed
-        return [word, *self.worth_words(worths)]
+        return [word] + self.worth_words(worths)
 
     def part_words(self, kind, part):
         """The words for a part of a frame."""
@@ -82,7 +84,7 @@ class Telling:
         if kind == "worth":
             return [self.worth_word(part)]
         if kind == "worths":
-            return [BAR, *self.worth_words(part)]
+            return [BAR] + self.worth_words(part)
         return self.chain_words(part) if kind == "chain" else self.deed_words(part)
 
     def frame_line(self, word, parts):
@@ -122,7 +124,7 @@ class Telling:
         """The live frames, and the chain under them."""
         live = self.state.live
         lines = [f"live {len(live)}"] + [self.frame_line(frame.word, frame.parts) for frame in live[::-1]]
-        return lines + [" ".join(["chain", *self.chain_words(self.state.chain)])]
+        return lines + [" ".join(["chain"] + self.chain_words(self.state.chain))]
 
     def lines_of_numbers(self):
         """The lines of all that was told by its number, and of all that comes by these lines."""
@@ -135,15 +137,15 @@ class Telling:
 
     def lines_of(self, told):
         if isinstance(told, Pair):
-            words = ["pair", *self.worth_words((told.head, told.tail))]
+            words = ["pair"] + self.worth_words((told.head, told.tail))
         elif isinstance(told, Cell):
-            words = ["cell", *self.worth_words((self.state.world.got(told),))]
+            words = ["cell", self.worth_word(self.state.world.got(told))]
         elif isinstance(told, Made):
-            words = ["fn", str(told.body), *self.worth_words(told.taken)]
+            words = ["fn", str(told.body)] + self.worth_words(told.taken)
         elif isinstance(told, Whole):
-            words = ["rest", *self.chain_words(told.chain)]
+            words = ["rest"] + self.chain_words(told.chain)
         elif isinstance(told, Part):
-            words = ["part", *self.range_words(told.ranges)]
+            words = ["part"] + self.range_words(told.ranges)
         else:
             return self.piece_lines(told)
         return [" ".join(words)]
@@ -160,7 +162,7 @@ class Telling:
         cut = self.holding.cut.get(piece, {})
         many = max([reached] + [count for _, count in cut])
         below = piece.below if reached > 0 else None
-        lines = [" ".join(["piece", *self.chain_words(below), str(many)])]
+        lines = [" ".join(["piece"] + self.chain_words(below) + [str(many)])]
         for at in reversed(range(many)):
             if at < reached or any([low <= at < count for low, count in cut]):
                 lines.append(self.frame_line(piece.frames[at].word, piece.frames[at].parts))

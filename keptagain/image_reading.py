@@ -167,7 +167,7 @@ class ImageReader:
         if kind == "last worths":
             return self.read_worths()
         if kind == "call":
-            return [self.read_worth(), *self.read_worths()]
+            return [self.read_worth()] + self.read_worths()
         if kind == "chain":
             return self.read_chain()
         return self.read_deed() if kind == "deed" else self.read_ranges()

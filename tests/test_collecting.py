@@ -2,7 +2,9 @@
 
 import random
 import unittest
+from unittest import mock
 
+from keptagain import collecting
 from keptagain.collecting import collect, held, swept
 from keptagain.core import Program
 from keptagain.errors import BadInputs, BadMost, BadPace, NoMachine, NoProgram
@@ -160,6 +162,16 @@ class Swept(unittest.TestCase):
             program = Program(maker.text())
             most, pace = maker.random.choice((5, 20, 60)), maker.random.choice((1, 2, 3, 10, 100))
             self.assertEqual(swept(program, (), most, pace), meant(program, (), most))
+
+    def test_collected_ahead_of_the_rows_that_pace_tells(self):
+        program = Program(GROWING)
+        machine = Machine(program, ())
+        machine.run(7)
+        for pace in (1, 2, 3, 10, 1000):
+            seen = []
+            with mock.patch.object(collecting, "let_go", lambda state: seen.append(state.rows)):
+                swept(program, (), 7, pace)
+            self.assertEqual(seen, list(range(0, machine.rows, pace)))
 
     def test_by_name(self):
         program = Program(GROWING)

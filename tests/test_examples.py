@@ -11,7 +11,9 @@ class Examples(unittest.TestCase):
 
     def check(self, name):
         with open(os.path.join(HERE, name), encoding="utf-8") as file:
-            text = file.read()
+            self.check_text(name, file.read())
+
+    def check_text(self, name, text):
         test = doctest.DocTestParser().get_doctest(text, {}, name, name, 0)
         self.assertTrue(test.examples)
         said = []
@@ -53,6 +55,10 @@ class Examples(unittest.TestCase):
 
     def test_section_15(self):
         self.check("section_15.txt")
+
+    def test_those_of_the_readme(self):
+        with open(os.path.join(HERE, "..", "README.md"), encoding="utf-8") as file:
+            self.check_text("README.md", file.read().replace("```", ""))
 
 
 if __name__ == "__main__":
