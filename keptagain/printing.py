@@ -31,12 +31,12 @@ def text_within(datum, most):
             text = "("
             tails.append(thing.tail)
             thing = thing.head
-        elif isinstance(thing, int) and is_too_great(thing, most):
-            return None
         else:
-            behind, following = text_behind(tails)
-            text = single_text(thing) + behind
-            thing = following
+            single = single_text(thing, most)
+            if single is None:
+                return None
+            behind, thing = text_behind(tails)
+            text = single + behind
         signs += len(text)
         if most is not None and signs > most:
             return None
@@ -51,29 +51,28 @@ def text_behind(tails):
     """
     text = ""
     while tails:
-        tail = tails.pop()
+        tail = tails[-1]
         if isinstance(tail, Pair):
-            tails.append(tail.tail)
+            tails[-1] = tail.tail
             return text + " ", tail.head
         if tail != EMPTY:
-            tails.append(EMPTY)
+            tails[-1] = EMPTY
             return text + " . ", tail
+        tails.pop()
         text += ")"
     return text, None
 
 
-def single_text(thing):
-    """The text of what is no pair."""
+def single_text(thing, most):
+    """The text of what is no pair; None if it is an integer that surely has more than most figures."""
     if isinstance(thing, str):
         return thing
-    if isinstance(thing, int):
-        return number_text(thing)
-    return "#" + kind_of(thing)
-
-
-def is_too_great(number, most):
-    """Whether an integer surely has more than most figures, each being less than 4 bits."""
-    return most is not None and number.bit_length() > 4 * most
+    if not isinstance(thing, int):
+        return "#" + kind_of(thing)
+    # Each figure is less than 4 bits.
+    if most is not None and thing.bit_length() > 4 * most:
+        return None
+    return number_text(thing)
 
 
 def number_text(number):

@@ -3,7 +3,7 @@
 from keptagain.data import EMPTY, list_of
 from keptagain.errors import BadText
 from keptagain.printing import datum_text
-from keptagain.words import DOT, is_integer, is_name, number_of, words_in
+from keptagain.words import DOT, bare_words, is_integer, is_name, number_of, words_in
 
 MOST_OPEN = 40
 # Where the next word stands in the innermost datum that is not whole.
@@ -22,11 +22,15 @@ class Opened:
 
 
 class Reader:
-    """Takes words one by one; `data` are those that are whole, outside of all others."""
+    """Takes words one by one; `data` are those that are whole, outside of all others.
+
+    `known` are the data of the words that were taken so far, brackets and their like aside.
+    """
 
     def __init__(self):
         self.data = []
         self.opened = []
+        self.known = {}
 
     def where(self):
         """Where the next word stands; None outside of all data."""
@@ -34,7 +38,9 @@ class Reader:
 
     def take(self, word, place):
         """Goes on by word: BadText if it cannot stand at place."""
-        if word == "(":
+        if word in self.known:
+            self.take_single(self.known[word], place)
+        elif word == "(":
             self.take_opening(IN_LIST, place)
         elif word == "'":
             self.take_opening(BEHIND_QUOTE, place)
@@ -42,8 +48,14 @@ class Reader:
             self.take_dot(place)
         elif word == ")":
             self.take_closing(place)
-        else:
+        elif is_integer(word):
+            self.known[word] = number_of(word)
+            self.take_single(self.known[word], place)
+        elif is_name(word):
+            self.known[word] = word
             self.take_single(word, place)
+        else:
+            raise BadText(place)
 
     def take_opening(self, state, place):
         if self.where() == BEHIND_TAIL or len(self.opened) == MOST_OPEN:
@@ -63,15 +75,11 @@ class Reader:
         tail = made.data.pop() if made.state == BEHIND_TAIL else EMPTY
         self.put(list_of(made.data, tail))
 
-    def take_single(self, word, place):
+    def take_single(self, datum, place):
+        """Goes on by an integer or a name."""
         if self.where() == BEHIND_TAIL:
             raise BadText(place)
-        if is_integer(word):
-            self.put(number_of(word))
-        elif is_name(word):
-            self.put(word)
-        else:
-            raise BadText(place)
+        self.put(datum)
 
     def put(self, datum):
         """Puts a whole datum where it stands; with it, the quotes ahead of it are whole."""
@@ -89,7 +97,29 @@ class Reader:
 
 def data_in(text):
     """All data of text, in sequence."""
-    words, end = checked_words(text)
+    return read_by(all_data, text)
+
+
+def datum_in(text):
+    """The one datum of text."""
+    return read_by(lone_datum, text)
+
+
+def read_by(look, text):
+    """What look makes of the words of text."""
+    if not isinstance(text, str):
+        raise BadText((0, 0))
+    try:
+        return look([(word, None) for word in bare_words(text)], None)
+    except BadText:
+        pass
+    # Where the words are is looked for only if they cannot stand, as it takes longer.
+    words, end = words_in(text)
+    return look(words, end)
+
+
+def all_data(words, end):
+    """All data of words with their places, in sequence; end is the place behind them."""
     reader = Reader()
     for word, place in words:
         reader.take(word, place)
@@ -98,9 +128,8 @@ def data_in(text):
     return reader.data
 
 
-def datum_in(text):
-    """The one datum of text."""
-    words, end = checked_words(text)
+def lone_datum(words, end):
+    """The one datum of words with their places."""
     reader = Reader()
     for word, place in words:
         if reader.data:
@@ -109,13 +138,6 @@ def datum_in(text):
     if not reader.data:
         raise BadText(end)
     return reader.data[0]
-
-
-def checked_words(text):
-    """The words of text and the place of its end, if it is a string."""
-    if not isinstance(text, str):
-        raise BadText((0, 0))
-    return words_in(text)
 
 
 def read(text):

@@ -9,6 +9,16 @@ CHUNK = 64
 CHUNK_SCALE = 10 ** 64
 
 
+def bare_words(text):
+    """All words of text, in sequence; a sign that cannot stand is part of a word that then cannot stand either."""
+    code = text
+    if ";" in text:
+        code = "\n".join([line.partition(";")[0] for line in text.split("\n")])
+    for sign in "()'":
+        code = code.replace(sign, " " + sign + " ")
+    return [word for word in code.replace("\n", " ").split(" ") if word]
+
+
 def words_in(text):
     """All words of text with their places, in sequence, and the place of its end.
 

@@ -1,9 +1,12 @@
 """Section 4: what texts are read to."""
 
+import random
 import unittest
 
 from keptagain.errors import BadText
-from keptagain.reading import printed, read
+from keptagain.printing import datum_text
+from keptagain.reading import all_data, printed, read
+from keptagain.words import bare_words, words_in
 
 NAME_SIGNS = "abcdefghijklmnopqrstuvwxyz0123456789-?!*<=>+/."
 
@@ -200,6 +203,33 @@ class ReadAgain(unittest.TestCase):
         for text in self.TEXTS:
             self.assertEqual(read(text), read(text))
             self.assertIsInstance(read(text), tuple)
+
+
+class WithPlacesAndWithout(unittest.TestCase):
+    """Words are looked up without their places at first, and with them where a text cannot be read: both tell the same."""
+
+    def test_texts_made_at_random(self):
+        chance = random.Random(8)
+        refusals = 0
+        for lap in range(4000):
+            signs = "(( )) \n\n'.a0-;b9" + ("A\t~" if lap % 3 == 0 else "")
+            text = "".join(chance.choice(signs) for _ in range(chance.randint(0, 25)))
+            words, end = words_in(text)
+            try:
+                wanted = tuple(datum_text(datum) for datum in all_data(words, end))
+            except BadText as error:
+                wanted = error.value
+                refusals += 1
+            try:
+                told = read(text)
+            except BadText as error:
+                told = error.value
+            self.assertEqual(told, wanted, text)
+        self.assertTrue(1000 < refusals < 3500)
+
+    def test_the_same_words(self):
+        for text in ("(a . b)", "; (a\n'b;c\n;d", "((a)b(c))d", "a'b''c", "", "\n;\n", "a.b ... .a 5-5"):
+            self.assertEqual(bare_words(text), [word for word, _ in words_in(text)[0]])
 
 
 if __name__ == "__main__":
