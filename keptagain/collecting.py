@@ -23,11 +23,13 @@ def collect(machine):
 
 def let_go(state):
     """Lets all THINGS go that cannot be come to, and returns how many: of cells alone something is left of them."""
-    things = holding_of(state).things
-    world = state.world
-    world.cells = {cell: datum for cell, datum in world.cells.items() if cell in things}
+    # Where all THINGS that there are were come to, nothing goes: what else holds them need not be looked at.
+    things = holding_of(state, state.things).things
     gone = state.things - len(things)
-    state.things = len(things)
+    if gone > 0:
+        world = state.world
+        world.cells = {cell: datum for cell, datum in world.cells.items() if cell in things}
+        state.things = len(things)
     return gone
 
 

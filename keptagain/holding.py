@@ -18,6 +18,7 @@ class Holding:
         self.cut = {}
         self.frames = {}
         self.new_things = []
+        self.new_frames = []
         self.new_chains = []
 
     def take_worths(self, worths):
@@ -27,18 +28,21 @@ class Holding:
                 self.new_things.append(worth)
 
     def take_frames(self, frames):
-        for frame in frames:
-            if frame not in self.frames:
-                self.frames[frame] = True
-                for kind, part in zip(FRAME_PARTS[frame.word], frame.parts):
-                    self.take_part(kind, part)
+        self.new_frames.extend([frame for frame in frames if frame not in self.frames])
+
+    def take_parts_of(self, frame):
+        """Takes what a frame holds, unless it was come to by another way already."""
+        if frame not in self.frames:
+            self.frames[frame] = True
+            for kind, part in zip(FRAME_PARTS[frame.word], frame.parts):
+                self.take_part(kind, part)
 
     def take_part(self, kind, part):
         """Takes a part of a frame; numbers hold nothing."""
-        if kind == "worth":
-            self.take_worths((part,))
-        elif kind == "worths":
+        if kind == "worths":
             self.take_worths(part)
+        elif kind == "worth":
+            self.take_worths((part,))
         elif kind == "chain":
             self.new_chains.append(part)
         elif kind == "deed":
@@ -77,17 +81,19 @@ class Holding:
         else:
             self.take_ranges(thing.ranges)
 
-    def take_all(self, cells):
-        """Takes, step by step, what is held by all that was taken."""
-        while self.new_things or self.new_chains:
+    def take_all(self, cells, enough):
+        """Takes, step by step, what is held by all that was taken, until there are enough THINGS (None: all of it)."""
+        while len(self.things) != enough and (self.new_things or self.new_frames or self.new_chains):
             if self.new_things:
                 self.take_held_by(self.new_things.pop(), cells)
+            elif self.new_frames:
+                self.take_parts_of(self.new_frames.pop())
             else:
                 self.take_chain(self.new_chains.pop())
 
 
-def holding_of(state):
-    """All that is held on to as state stands."""
+def holding_of(state, enough=None):
+    """All that is held on to as state stands; where enough is told, no more of it than has so many THINGS."""
     holding = Holding()
     holding.take_worths(state.code.quoted_pairs)
     holding.take_worths(list(state.top.values()))
@@ -95,9 +101,9 @@ def holding_of(state):
     if frame is not None:
         holding.take_worths(list(frame.taken) + frame.own + frame.pile)
     holding.take_frames(state.live)
-    holding.take_chain(state.chain)
+    holding.new_chains.append(state.chain)
     take_next(holding, state)
-    holding.take_all(state.world.cells)
+    holding.take_all(state.world.cells, enough)
     return holding
 
 
@@ -105,7 +111,7 @@ def take_next(holding, state):
     """Takes what the next row is about."""
     if state.now == GO:
         goal, deed = state.about
-        holding.take_chain(goal)
+        holding.new_chains.append(goal)
         holding.take_deed(deed)
     elif state.now == "make":
         function, worths = state.about
