@@ -195,7 +195,7 @@ class ImageReader:
     def read_worths(self):
         """All worths up to a bar, or to the end of the line."""
         found = []
-        while not self.lines.is_line_over() and not self.lines.comes(BAR):
+        while not self.lines.is_line_over() and self.lines.next_word() != BAR:
             found.append(self.read_worth())
         return found
 

@@ -61,9 +61,9 @@ class LineReader:
         self.column += 1
         return self.words[self.column - 1]
 
-    def comes(self, word):
-        """Whether this is the next word of the line."""
-        return not self.is_line_over() and self.words[self.column] == word
+    def next_word(self):
+        """The next word of the line, which is not over; it is not taken."""
+        return self.words[self.column]
 
     def take_number(self):
         """The number, from 0 on, that the next word is."""

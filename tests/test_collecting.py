@@ -206,6 +206,12 @@ class HandedIn(unittest.TestCase):
         self.assertEqual((tells(machine), image(machine)), before)
         self.assertEqual(collect(machine=machine), before[0]["things"] - machine.things)
 
+    def test_cells_that_went_hold_nothing_any_more(self):
+        machine = Machine(Program("(def c (cell '(1))) (def f (fn (n) (if (less n 1) 0 (do (cell (list n)) (f (sub n 1)))))) (f 20)"), ())
+        machine.run(1000)
+        self.assertEqual((len(machine.state.world.cells), machine.things), (21, 43))
+        self.assertEqual((collect(machine), len(machine.state.world.cells), machine.things), (40, 1, 3))
+
     def test_deep_rests_long_lists_and_rings(self):
         machine = Machine(Program("(def f (fn (n l) (if (less n 1) l (list (keep (fn (k) (f (sub n 1) (pair k l)))))))) (def x (f 1500 '()))"), ())
         machine.run(7000)

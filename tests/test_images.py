@@ -326,7 +326,9 @@ class FirstBadLine(unittest.TestCase):
         self.line_otherwise(lines, "pair 1 ", "pair 1 #4", "pair 1", "pair 1 2 3", "pair", "pair x #3", "cell #4", "pair 1 #3 ")
         self.line_otherwise(lines, "forms 3", "forms", "- -", "", "pair 1 2", "forms 3 3", "call 0 9 | | |", "--")
         self.line_otherwise(lines, "fn 2", "fn 5", "fn 2 #8", "fn", "pair 1", "cell", "cell 1 2", "cell #8", "rest #8 1", "rest #7")
-        self.line_otherwise(lines, "piece ", "piece none", "piece none -1", "piece #9 1 1", "piece none 1 1", "piece 0 1")
+        self.line_otherwise(lines, "piece ", "piece none", "piece none -1", "piece #9 1 1", "piece none 1 1", "piece 0 1", "piece 10 1 1", "piece a0 1 1")
+        self.line_otherwise(lines, "rest ", "rest 12 1", "rest a2 1", "rest '2 1", "part 12 0 1", "part #2 0 1 a2 0 1")
+        self.line_otherwise(lines, "chain ", "chain 10 1", "chain a0 1", "chain ## 1")
 
     def test_the_first_of_several(self):
         lines = lines_of("(list 5 (list '(6)))", 7)
@@ -337,6 +339,24 @@ class FirstBadLine(unittest.TestCase):
                 bad[first] = bad[second] = "x x x"
                 self.check(bad, min(first, second) + 1)
                 self.check(bad[:max(first, second)], min(first, second) + 1)
+
+    def test_what_holds_itself_is_refused_or_read(self):
+        start = ["image", "text 1", "5", "inputs 0", "told 0", "turns 0", "rows 0", "marks 0", "ending on", "globals 1"]
+        for rest in (["x 5", "now hand 1", "live 0", "chain #0 1", "piece #0 1 1", "forms 1"],
+                     ["x 5", "now hand 1", "live 0", "chain #0 1", "piece #1 1 1", "prompt", "piece #0 1 1", "forms 1"],
+                     ["x #0", "now hand 1", "live 1", "forms 1", "chain none", "pair #0 #0"],
+                     ["x #0", "now hand 1", "live 1", "forms 1", "chain none", "part #1 0 1", "piece none 1", "going #1 1 give #0"],
+                     ["x #0", "now hand 1", "live 1", "forms 1", "chain none", "rest #1 1", "piece none 1", "try #0"],
+                     ["x #0", "now hand 1", "live 1", "forms 1", "chain none", "rest #1 1", "piece none 1", "-"],
+                     ["x #0", "now hand 1", "live 1", "forms 1", "chain none", "rest #1 2", "piece none 1", "forms 1"],
+                     ["x #0", "now hand 1", "live 1", "forms 1", "chain none", "rest #0 1"],
+                     ["x #0", "now hand 1", "live 1", "forms 1", "chain none", "pair #1 2", "piece none 1", "forms 1"],
+                     ["x 5", "now ended", "live 0", "chain none"]):
+            text = "\n".join(start + rest)
+            found = refused(read_image, text)
+            self.assertTrue(found is None or found[0] is BadImage, rest)
+            if found is None:
+                self.assertEqual(image(read_image(text)), text)
 
     def test_what_has_the_form_but_is_no_image_is_refused_or_read(self):
         chance = random.Random(5)
