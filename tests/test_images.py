@@ -293,7 +293,7 @@ class FirstBadLine(unittest.TestCase):
         lines = image(machine).split("\n")
         self.line_otherwise(lines, "c 2", "b 2", "a 2", "yes 2", "none 2", "no 2", "5 2", "- 2", "C 2", "c" * 17 + " 2", "c", "c 2 2", "c #1",
                             "c !none", "c !x", "c '", "c 'yes", "c '5", "c ''a", "c !", "c #", "c # 0", "c x", "c 02", "c -0", "c #cell", "'c 2",
-                            "c (", "c (1)", ". 2", "c #-1", "c #00", "c |", "c -")
+                            "c (", "c (1)", ". 2", "c #-1", "c #00", "c |", "c -", "c xa", "c -a", "c aa", "c +add", "c \"a")
 
     def test_what_comes_next(self):
         lines = lines_of("5", 3)
