@@ -1,7 +1,7 @@
 """A bench: a machine under hands, which goes forth and back."""
 
-from keptagain.checks import input_data, is_integer_within
 from keptagain.bodies import code_of
+from keptagain.checks import input_data, is_integer_within
 from keptagain.collecting import let_go
 from keptagain.core import Program
 from keptagain.errors import BadNumber, NoBlock, NothingToRedo, NothingToUndo
