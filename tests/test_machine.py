@@ -100,7 +100,7 @@ class Rows(unittest.TestCase):
         while machine.ending is None:
             machine.step()
             seen |= {machine.frame(number) for number in range(1, machine.depth + 1) if machine.frame(number)[0] != "call"}
-        self.assertEqual(seen, {("forms", 0), ("forms", 1), ("prompt",), ("try",), ("winding",), ("wind",), ("wound",)} - {("forms", 0)})
+        self.assertEqual(seen, {("forms", 1), ("prompt",), ("try",), ("winding",), ("wind",), ("wound",)})
 
     def test_going_and_entering_frames(self):
         text = ("(def k none) (wind (fn () (list (list))) (fn () (keep (fn (r) (set k r)))) (fn () (list (list)))) "
@@ -109,7 +109,7 @@ class Rows(unittest.TestCase):
         while machine.ending is None:
             machine.step()
             seen |= {machine.frame(number)[0] for number in range(1, machine.depth + 1)}
-        self.assertLessEqual({("going"), ("entering")}, seen)
+        self.assertLessEqual({"going", "entering"}, seen)
 
     def test_things_that_rows_make(self):
         for text, many in (("(pair 1 2)", 1), ("(list 1 2 3)", 3), ("(list)", 0), ("(cell 1)", 1), ("(fn () 1)", 1), ("((fn l l) 1 2 3)", 4),
