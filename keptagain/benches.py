@@ -48,7 +48,7 @@ class Bench:
 
     @property
     def program(self):
-        return self.now.state.program
+        return self.now.state.source
 
     @property
     def told(self):
@@ -56,11 +56,11 @@ class Bench:
 
     @property
     def turns(self):
-        return self.now.state.turns
+        return self.now.state.turns_begun
 
     @property
     def ending(self):
-        return self.now.state.ending
+        return self.now.state.how_ended
 
     @property
     def deeds(self):
@@ -76,21 +76,21 @@ class Bench:
         """Does so many rows, or as many as there are; returns how many."""
         need_number(number)
         state = self.begun()
-        before = state.rows
-        while state.ending is None and state.rows < before + number:
+        before = state.rows_done
+        while state.how_ended is None and state.rows_done < before + number:
             do_row(state)
         self.done(state, f"rows {number}")
-        return state.rows - before
+        return state.rows_done - before
 
     def goes(self, number):
         """Does rows until so many TURNS more have begun, or there is an ending; returns how many."""
         need_number(number)
         state = self.begun()
-        before = state.turns
-        while state.ending is None and state.turns < before + number:
+        before = state.turns_begun
+        while state.how_ended is None and state.turns_begun < before + number:
             do_row(state)
         self.done(state, f"goes {number}")
-        return state.turns - before
+        return state.turns_begun - before
 
     def collect(self):
         """Lets all THINGS go that cannot be come to, and returns how many."""

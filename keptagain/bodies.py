@@ -13,7 +13,7 @@ class Body:
     """What is compiled of a form or of an fn; number is that of its form, from 1.
 
     Names are those that its fn binds, taken those that it takes from round about, boxed those of its own that are
-    held in cells. Each row is a tuple of its word and what stands behind it.
+    held in cells. Each of `all_rows` is a tuple of its word and what stands behind it.
     """
 
     def __init__(self, kind, number, names, taken, boxed):
@@ -22,7 +22,7 @@ class Body:
         self.names = names
         self.taken = taken
         self.boxed = boxed
-        self.rows = ()
+        self.all_rows = ()
 
 
 class Code:
@@ -31,7 +31,7 @@ class Code:
     def __init__(self, made):
         self.bodies = made
         self.forms = [at for at, body in enumerate(made) if body.kind == FORM]
-        data = [row[1] for body in made for row in body.rows if row[0] == "const"]
+        data = [row[1] for body in made for row in body.all_rows if row[0] == "const"]
         self.quoted_pairs = [pair for datum in data for pair in pairs_in(datum)]
 
 
@@ -54,7 +54,7 @@ def code_of(program):
     made = []
     for number, expressions in enumerate(found, start=1):
         body = Body(FORM, number, (), (), ())
-        body.rows = form_rows(body, plan, expressions[0])
+        body.all_rows = form_rows(body, plan, expressions[0])
         made.append(body)
         made.extend([fn_body(fn, number, plan) for fn in expressions if word_of(fn) == "fn"])
     return Code(made)
@@ -80,7 +80,7 @@ def fn_body(fn, number, plan):
     names = names_of(fn)
     boxed = tuple([name for name in names if name in plan.changing])
     body = Body(REST if is_name(parameters) else FN, number, names, plan.taken[fn], boxed)
-    body.rows = fn_rows(body, plan, fn.tail.tail)
+    body.all_rows = fn_rows(body, plan, fn.tail.tail)
     return body
 
 
@@ -127,10 +127,10 @@ class RowWriter:
     def __init__(self, body, plan):
         self.body = body
         self.plan = plan
-        self.rows = []
+        self.all_rows = []
 
     def put(self, word, *behind):
-        self.rows.append((word, *behind))
+        self.all_rows.append((word, *behind))
 
     def expression(self, expression, at_end):
         if not isinstance(expression, Pair):
@@ -199,16 +199,16 @@ class RowWriter:
 
     def branches(self, things, at_end):
         self.expression(things[0], False)
-        unless = len(self.rows)
+        unless = len(self.all_rows)
         self.put("unless", None)
         self.expression(things[1], at_end)
-        jump = len(self.rows)
+        jump = len(self.all_rows)
         if not at_end:
             self.put("jump", None)
-        self.rows[unless] = ("unless", len(self.rows))
+        self.all_rows[unless] = ("unless", len(self.all_rows))
         self.expression(things[2], at_end)
         if not at_end:
-            self.rows[jump] = ("jump", len(self.rows))
+            self.all_rows[jump] = ("jump", len(self.all_rows))
 
     def sequence(self, things, at_end):
         for thing in things[:-1]:
@@ -227,7 +227,7 @@ def form_rows(body, plan, core):
         writer.put("back")
     else:
         writer.expression(core, True)
-    return tuple(writer.rows)
+    return tuple(writer.all_rows)
 
 
 def fn_rows(body, plan, expressions):
@@ -237,4 +237,4 @@ def fn_rows(body, plan, expressions):
         writer.put("box", writer.place(name))
     things, _ = things_of(expressions)
     writer.sequence(things, True)
-    return tuple(writer.rows)
+    return tuple(writer.all_rows)

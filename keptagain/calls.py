@@ -10,7 +10,7 @@ from keptagain.state import Running
 
 def call(state, function, worths):
     """Calls function with worths, in the rest that waits: one TURN."""
-    state.turns += 1
+    state.turns_begun += 1
     if isinstance(function, Made):
         call_made(state, function, worths)
     elif isinstance(function, Primitive):
@@ -27,7 +27,7 @@ def call(state, function, worths):
 def call_made(state, function, worths):
     body = state.code.bodies[function.body]
     if body.kind == REST:
-        state.things += len(worths)
+        state.thing_count += len(worths)
         state.run_frame(Running(function.body, 0, function.taken, [list_of(worths, EMPTY)], []))
     elif len(worths) != len(body.names):
         fault(state, "many")
@@ -48,7 +48,7 @@ def call_primitive(state, name, worths):
     if isinstance(worth, Fault):
         fault(state, worth.datum)
         return
-    state.things += made_by(name, worths, worth)
+    state.thing_count += made_by(name, worths, worth)
     state.hand(worth)
 
 
@@ -71,7 +71,7 @@ def call_use(state, function, listed):
 
 def call_keep(state, function):
     state.seal()
-    state.things += 1
+    state.thing_count += 1
     state.make(function, (Whole(state.chain),))
 
 
@@ -86,7 +86,7 @@ def call_part(state, function):
         return
     state.seal()
     goal = nearest(state.chain, PROMPT)
-    state.things += 1
+    state.thing_count += 1
     state.go(goal, ("call", (function, Part(ranges_above(state.chain, goal)))))
 
 
@@ -112,7 +112,7 @@ CALLING = {
 
 def waits(state, word):
     """Whether a frame with this word waits."""
-    return any([frame.word == word for frame in state.live]) or nearest(state.chain, word) is not None
+    return any([frame.word == word for frame in state.live_frames]) or nearest(state.chain, word) is not None
 
 
 def put_upon(state, part):

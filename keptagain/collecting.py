@@ -12,7 +12,7 @@ MOST_PACE = 1000
 def held(machine):
     """How many THINGS can be come to."""
     need_machine(machine)
-    return len(holding_of(machine.state).things)
+    return len(holding_of(machine.state).held_things)
 
 
 def collect(machine):
@@ -24,12 +24,12 @@ def collect(machine):
 def let_go(state):
     """Lets all THINGS go that cannot be come to, and returns how many: of cells alone something is left of them."""
     # Where all THINGS that there are were come to, nothing goes: what else holds them need not be looked at.
-    things = holding_of(state, state.things).things
-    gone = state.things - len(things)
+    things = holding_of(state, state.thing_count).held_things
+    gone = state.thing_count - len(things)
     if gone > 0:
         world = state.world
         world.cells = {cell: datum for cell, datum in world.cells.items() if cell in things}
-        state.things = len(things)
+        state.thing_count = len(things)
     return gone
 
 

@@ -34,7 +34,7 @@ def bodies(program):
 def coded(program):
     """The rows of each body, as texts."""
     need_program(program)
-    return tuple([tuple([row_text(row) for row in body.rows]) for body in code_of(program).bodies])
+    return tuple([tuple([row_text(row) for row in body.all_rows]) for body in code_of(program).bodies])
 
 
 def row_text(row):
@@ -45,7 +45,7 @@ def row_text(row):
 def heights(program):
     """How many worths lie on the pile ahead of each row of each body."""
     need_program(program)
-    return tuple([body_heights(body.rows) for body in code_of(program).bodies])
+    return tuple([body_heights(body.all_rows) for body in code_of(program).bodies])
 
 
 def body_heights(rows):

@@ -19,7 +19,7 @@ def come_to_call(state, worth, body, row, taken, own, pile):
 
 def come_to_forms(state, worth, begun):
     """Begins the next form of the program."""
-    if begun == len(state.program.cores):
+    if begun == len(state.source.cores):
         state.end("ended", worth)
         return
     state.put(FORMS, (begun + 1,))

@@ -8,12 +8,12 @@ from keptagain.state import GO
 class Holding:
     """What is held on to, as far as it was come to.
 
-    `things` are the THINGS; `reached` tells of each piece that lies in a chain the greatest count by which one has it;
-    `cut` tells of each piece of a REST in part which of its frames belong to one: (first, one behind the last).
+    `held_things` are the THINGS; `reached` tells of each piece that lies in a chain the greatest count by which one has
+    it; `cut` tells of each piece of a REST in part which of its frames belong to one: (first, one behind the last).
     """
 
     def __init__(self):
-        self.things = {}
+        self.held_things = {}
         self.reached = {}
         self.cut = {}
         self.frames = {}
@@ -23,8 +23,8 @@ class Holding:
 
     def take_worths(self, worths):
         for worth in worths:
-            if isinstance(worth, (Pair, Cell, Made, Whole, Part)) and worth not in self.things:
-                self.things[worth] = True
+            if isinstance(worth, (Pair, Cell, Made, Whole, Part)) and worth not in self.held_things:
+                self.held_things[worth] = True
                 self.new_things.append(worth)
 
     def take_frames(self, frames):
@@ -83,7 +83,7 @@ class Holding:
 
     def take_all(self, cells, enough):
         """Takes, step by step, what is held by all that was taken, until there are enough THINGS (None: all of it)."""
-        while len(self.things) != enough and (self.new_things or self.new_frames or self.new_chains):
+        while len(self.held_things) != enough and (self.new_things or self.new_frames or self.new_chains):
             if self.new_things:
                 self.take_held_by(self.new_things.pop(), cells)
             elif self.new_frames:
@@ -100,7 +100,7 @@ def holding_of(state, enough=None):
     frame = state.running
     if frame is not None:
         holding.take_worths(list(frame.taken) + frame.own + frame.pile)
-    holding.take_frames(state.live)
+    holding.take_frames(state.live_frames)
     holding.new_chains.append(state.chain)
     take_next(holding, state)
     holding.take_all(state.world.cells, enough)

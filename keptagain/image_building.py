@@ -13,25 +13,25 @@ def state_of(image):
     """The State that stands as the lines that were read tell."""
     builder = Builder(image)
     builder.fill_all()
-    state = State(image.program, image.code, image.inputs)
+    state = State(image.source, image.code, image.inputs)
     world = state.world
     world.said = image.said
     world.cells = builder.cells
     state.top = {name: builder.worth_of(told) for name, told in image.top.items()}
     state.marks = image.marks
-    state.turns = image.turns
-    state.rows = image.rows
+    state.turns_begun = image.turns_begun
+    state.rows_done = image.rows_done
     state.chain = builder.chain_of(image.chain)
-    state.live = [builder.frame_of(told) for told in reversed(image.live)]
+    state.live_frames = [builder.frame_of(told) for told in reversed(image.live_frames)]
     set_coming(state, image, builder)
-    state.things = len(holding_of(state).things)
+    state.thing_count = len(holding_of(state).held_things)
     return state
 
 
 def set_coming(state, image, builder):
     """Sets what comes next."""
     told = image.coming
-    need((told.word == ENDED) == (image.ending is not None))
+    need((told.word == ENDED) == (image.how_ended is not None))
     if told.word == HAND:
         state.hand(builder.worth_of(told.parts[0]))
     elif told.word == GO:
@@ -41,7 +41,7 @@ def set_coming(state, image, builder):
         function, *worths = builder.worths_of(told.parts[0])
         state.make(function, worths)
     elif told.word == ENDED:
-        state.ending = image.ending
+        state.how_ended = image.how_ended
         state.now = ENDED
         state.about = ()
     else:
@@ -76,7 +76,7 @@ class Builder:
         self.lines = {}
         self.cells = {}
         self.laid = {}
-        for told in image.things:
+        for told in image.told_things:
             made = made_empty(told)
             self.numbered.append(made)
             self.lines[made] = told

@@ -24,15 +24,15 @@ def image_lines(state):
 def talk_lines(state):
     """The program's text, the inputs that were not asked for, and what was told."""
     world = state.world
-    text = state.program.text.split("\n")
+    text = state.source.text.split("\n")
     left = [full_text(datum) for datum in world.inputs[world.asked:]]
     lines = ["image", f"text {len(text)}"] + text + [f"inputs {len(left)}"] + left
     return lines + [f"told {len(world.said)}"] + world.said
 
 
 def count_lines(state):
-    ending = "ending on" if state.ending is None else "ending " + " ".join(state.ending)
-    return [f"turns {state.turns}", f"rows {state.rows}", f"marks {state.marks}", ending]
+    ending = "ending on" if state.how_ended is None else "ending " + " ".join(state.how_ended)
+    return [f"turns {state.turns_begun}", f"rows {state.rows_done}", f"marks {state.marks}", ending]
 
 
 class Telling:
@@ -122,7 +122,7 @@ class Telling:
 
     def waiting_lines(self):
         """The live frames, and the chain under them."""
-        live = self.state.live
+        live = self.state.live_frames
         lines = [f"live {len(live)}"] + [self.frame_line(frame.word, frame.parts) for frame in live[::-1]]
         return lines + [" ".join(["chain"] + self.chain_words(self.state.chain))]
 

@@ -53,21 +53,21 @@ class ImageReader:
         self.primitives = {name: Primitive(name) for name in WANTED}
         self.top = {name: self.primitives[name] for name in WANTED}
         self.lines.lone_word("image")
-        self.program = self.lines.read_program()
-        self.code = code_of(self.program)
+        self.source = self.lines.read_program()
+        self.code = code_of(self.source)
         self.known = len(self.code.quoted_pairs)
         self.inputs = self.lines.read_inputs()
         self.said = self.lines.lines_counted(self.lines.counted("told"))
-        self.turns = self.lines.counted("turns")
-        self.rows = self.lines.counted("rows")
+        self.turns_begun = self.lines.counted("turns")
+        self.rows_done = self.lines.counted("rows")
         self.marks = self.lines.counted("marks")
-        self.ending = self.read_ending()
+        self.how_ended = self.read_ending()
         self.read_globals()
         self.coming = self.read_coming()
-        self.live = [self.read_frame() for lap in range(self.lines.counted("live"))]
+        self.live_frames = [self.read_frame() for lap in range(self.lines.counted("live"))]
         self.lines.need(self.lines.open_line() == "chain")
         self.chain = self.read_last("chain")
-        self.things = self.read_things()
+        self.told_things = self.read_things()
 
     # Lines.
 
@@ -108,7 +108,7 @@ class ImageReader:
         self.lines.need(word in FRAME_PARTS)
         told = Told(word, self.read_parts(FRAME_PARTS[word]))
         if word == CALL:
-            self.lines.need(told.parts[1] < len(self.code.bodies[told.parts[0]].rows))
+            self.lines.need(told.parts[1] < len(self.code.bodies[told.parts[0]].all_rows))
         return told
 
     def read_things(self):

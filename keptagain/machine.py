@@ -20,7 +20,7 @@ class Machine:
 
     @property
     def program(self):
-        return self.state.program
+        return self.state.source
 
     @property
     def told(self):
@@ -28,15 +28,15 @@ class Machine:
 
     @property
     def turns(self):
-        return self.state.turns
+        return self.state.turns_begun
 
     @property
     def rows(self):
-        return self.state.rows
+        return self.state.rows_done
 
     @property
     def ending(self):
-        return self.state.ending
+        return self.state.how_ended
 
     @property
     def depth(self):
@@ -44,7 +44,7 @@ class Machine:
 
     @property
     def live(self):
-        return len(self.state.live)
+        return len(self.state.live_frames)
 
     @property
     def pieces(self):
@@ -52,7 +52,7 @@ class Machine:
 
     @property
     def things(self):
-        return self.state.things
+        return self.state.thing_count
 
     def step(self):
         """Does one row of the run, and returns what it was."""
@@ -62,10 +62,10 @@ class Machine:
     def run(self, most):
         """Does rows until a TURN would begin behind most of them, or there is an ending; returns how many began."""
         need_most(most)
-        before = self.state.turns
+        before = self.state.turns_begun
         while goes_on(self.state, before + most):
             do_row(self.state)
-        return self.state.turns - before
+        return self.state.turns_begun - before
 
     def frame(self, number):
         """What the frame of this number is: 0 is the running one, 1 the newest one that waits."""
@@ -78,8 +78,8 @@ class Machine:
 
 def need_on(state):
     """NotOn, if there is an ending."""
-    if state.ending is not None:
-        raise NotOn(state.ending)
+    if state.how_ended is not None:
+        raise NotOn(state.how_ended)
 
 
 def need_machine(machine):
@@ -108,9 +108,9 @@ def counts_in(chain):
 
 def waiting_frame(state, number):
     """The frame of this number among those that wait, from 1 on, the newest one first."""
-    if number <= len(state.live):
-        return state.live[-number]
-    left = number - len(state.live)
+    if number <= len(state.live_frames):
+        return state.live_frames[-number]
+    left = number - len(state.live_frames)
     piece, count = state.chain
     while left > count:
         left -= count

@@ -9,7 +9,7 @@ from keptagain.state import HAND, MAKE, RUN
 
 def do_row(state):
     """Does the next row of a run that has no ending, and returns what it was."""
-    state.rows += 1
+    state.rows_done += 1
     now = state.now
     if now == RUN:
         return do_body_row(state)
@@ -33,7 +33,7 @@ def begins_turn(state):
 
 def goes_on(state, turns):
     """Whether the next row can be done where no more than so many TURNS are to be begun in all."""
-    return state.ending is None and (state.turns < turns or not begins_turn(state))
+    return state.how_ended is None and (state.turns_begun < turns or not begins_turn(state))
 
 
 # Rows of the running frame.
@@ -41,7 +41,7 @@ def goes_on(state, turns):
 
 def next_row(state):
     frame = state.running
-    return state.code.bodies[frame.body].rows[frame.row]
+    return state.code.bodies[frame.body].all_rows[frame.row]
 
 
 def do_body_row(state):
@@ -82,7 +82,7 @@ def push_global(state, frame, name):
 
 def box(state, frame, at):
     frame.own[at] = state.world.made_cell(frame.own[at])
-    state.things += 1
+    state.thing_count += 1
 
 
 def set_local(state, frame, at):
@@ -108,7 +108,7 @@ def define(state, frame, name):
 def close(state, frame, body, many):
     taken = popped(frame, many)
     frame.pile.append(Made(body, tuple(taken)))
-    state.things += 1
+    state.thing_count += 1
 
 
 def popped(frame, many):

@@ -27,23 +27,24 @@ class Running:
 class State:
     """All that a machine holds, and what comes next: `now`, and in `about` what it is about.
 
-    `live` are the live frames that wait, the newest one last; `chain` is what lies under them. `things` is how many
-    THINGS there are: those that nothing holds are gone already, but stay counted until the collector works.
+    `source` is the Program. `live_frames` are those that wait, the newest one last; `chain` is what lies under them.
+    `thing_count` is how many THINGS there are: those that nothing holds are gone already, but stay counted until the
+    collector works. `how_ended` is None until there is an ending.
     """
 
     def __init__(self, program, code, inputs):
-        self.program = program
+        self.source = program
         self.code = code
         self.world = World(inputs)
         self.top = {name: Primitive(name) for name in WANTED}
-        self.things = len(code.quoted_pairs)
+        self.thing_count = len(code.quoted_pairs)
         self.marks = 0
-        self.turns = 0
-        self.rows = 0
-        self.live = [Waiting(FORMS, (0,))]
+        self.turns_begun = 0
+        self.rows_done = 0
+        self.live_frames = [Waiting(FORMS, (0,))]
         self.chain = None
         self.running = None
-        self.ending = None
+        self.how_ended = None
         self.hand(NONE)
 
     def hand(self, worth):
@@ -68,39 +69,39 @@ class State:
         self.about = ()
 
     def end(self, how, datum):
-        self.ending = (how, datum_text(datum))
+        self.how_ended = (how, datum_text(datum))
         self.now = ENDED
         self.about = ()
 
     def put(self, word, parts):
         """Puts a frame upon those that wait."""
-        self.live.append(Waiting(word, parts))
+        self.live_frames.append(Waiting(word, parts))
 
     def newest(self):
         """The newest frame that waits."""
-        return self.live[-1] if self.live else newest_frame(self.chain)
+        return self.live_frames[-1] if self.live_frames else newest_frame(self.chain)
 
     def take_newest(self):
         """Takes the newest frame that waits off, and returns it."""
-        if self.live:
-            return self.live.pop()
+        if self.live_frames:
+            return self.live_frames.pop()
         frame = newest_frame(self.chain)
         self.chain = chain_below(self.chain)
         return frame
 
     def seal(self):
         """Makes one piece of the live frames, if there are any."""
-        if self.live:
-            self.rest_at((Piece(self.live, self.chain), len(self.live)))
+        if self.live_frames:
+            self.rest_at((Piece(self.live_frames, self.chain), len(self.live_frames)))
 
     def rest_at(self, chain):
         """What waits is what counts in chain, and nothing else."""
         self.chain = chain
-        self.live = []
+        self.live_frames = []
 
     def newest_mark(self):
         """The MARK of the newest wind frame that waits; None without."""
-        for frame in reversed(self.live):
+        for frame in reversed(self.live_frames):
             if frame.word == WIND:
                 return frame.parts[0]
         return mark_of(nearest(self.chain, WIND))
@@ -108,7 +109,7 @@ class State:
 
 def waiting_in(state):
     """How many frames wait."""
-    return len(state.live) + depth_of(state.chain)
+    return len(state.live_frames) + depth_of(state.chain)
 
 
 def world_alike(world):
@@ -121,16 +122,16 @@ def world_alike(world):
 
 def alike(state):
     """A State that stands as state does, and goes on by itself."""
-    made = State(state.program, state.code, ())
+    made = State(state.source, state.code, ())
     made.world = world_alike(state.world)
     made.top = dict(state.top)
-    made.things = state.things
+    made.thing_count = state.thing_count
     made.marks = state.marks
-    made.turns = state.turns
-    made.rows = state.rows
-    made.live = list(state.live)
+    made.turns_begun = state.turns_begun
+    made.rows_done = state.rows_done
+    made.live_frames = list(state.live_frames)
     made.chain = state.chain
-    made.ending = state.ending
+    made.how_ended = state.how_ended
     made.now = state.now
     made.about = state.about
     frame = state.running

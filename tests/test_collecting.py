@@ -169,7 +169,7 @@ class Swept(unittest.TestCase):
         machine.run(7)
         for pace in (1, 2, 3, 10, 1000):
             seen = []
-            with mock.patch.object(collecting, "let_go", lambda state: seen.append(state.rows)):
+            with mock.patch.object(collecting, "let_go", lambda state: seen.append(state.rows_done)):
                 swept(program, (), 7, pace)
             self.assertEqual(seen, list(range(0, machine.rows, pace)))
 
